@@ -1,0 +1,1 @@
+"""What people know of hidden numbers, on a dial of which nobody told how many marks it has."""
