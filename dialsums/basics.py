@@ -1,6 +1,11 @@
 """What the other modules ask of plain values and of divisors."""
 
+from math import gcd
+
 GREATEST_DIAL = 10 ** 6
+GREATEST_RADICAL = 10 ** 9
+# Of primes beyond this one, no two come to a product within 10 ** 9.
+GREATEST_TRIAL = 31623
 
 
 def is_integer(value):
@@ -46,12 +51,15 @@ def powers(prime, many):
     return found
 
 
-def factored(number):
-    """The primes of an integer from 1 on, ascending, each with its exponent."""
+def divided(number, most):
+    """(factors, left): primes up to most of an integer from 1 on, ascending, with their exponents, and what is left.
+
+    What is left is 1, a prime, or has no prime up to most.
+    """
     found = []
     left = number
     prime = 2
-    while prime * prime <= left:
+    while prime <= most and prime * prime <= left:
         many = 0
         while left % prime == 0:
             left = left // prime
@@ -60,6 +68,12 @@ def factored(number):
             found.append((prime, many))
         # Behind 2 and 3 only odd numbers need a trial.
         prime = prime + 1 + prime % 2
+    return found, left
+
+
+def factored(number):
+    """The primes of an integer from 1 on, ascending, each with its exponent."""
+    found, left = divided(number, number)
     if left > 1:
         found.append((left, 1))
     return tuple(found)
@@ -89,3 +103,74 @@ def count_without(primes, upto):
         return upto
     rest = primes[1:]
     return count_without(rest, upto) - count_without(rest, upto // primes[0])
+
+
+def are_within(integers, most):
+    """Whether none of these integers is beyond -most to most."""
+    for one in integers:
+        if abs(one) > most:
+            return False
+    return True
+
+
+def times_to_gcd(number, dial):
+    """How many times a number comes to its greatest common divisor with the dial, round it."""
+    one, other = number, dial
+    times, more = 1, 0
+    while other != 0:
+        whole = one // other
+        one, other = other, one - whole * other
+        times, more = more, times - whole * more
+    return times % dial
+
+
+def coprime_base(numbers):
+    """Integers from 2 on without common divisors, of whose powers each of these numbers from 1 on is a product."""
+    found = []
+    left = [number for number in numbers]
+    while len(left) > 0:
+        number = left.pop()
+        met = [base for base in found if gcd(base, number) > 1]
+        if len(met) > 0:
+            # The product of what is left to do and what is found becomes less, so this comes to an end.
+            shared = gcd(met[0], number)
+            found.remove(met[0])
+            left.extend([met[0] // shared, number // shared, shared])
+        elif number > 1:
+            found.append(number)
+    return found
+
+
+def exponent(number, base):
+    """How often an integer from 1 on can be divided by this base."""
+    many = 0
+    left = number
+    while left % base == 0:
+        left = left // base
+        many += 1
+    return many
+
+
+def root(number, many, low, high):
+    """The integer from low to high of which the number is this power, None if there is none."""
+    while low < high:
+        middle = (low + high) // 2
+        if powers(middle, many)[-1] < number:
+            low = middle + 1
+        else:
+            high = middle
+    return low if powers(low, many)[-1] == number else None
+
+
+def radical(number):
+    """The product of all unlike primes of an integer from 1 on, None if it is greater than 10 ** 9."""
+    found, left = divided(number, GREATEST_TRIAL)
+    product = 1
+    for prime, _ in found:
+        product = product * prime
+    # What is left can be any power of one prime, which has more than 14 binary figures: two would be too great.
+    for many in range(1, left.bit_length() // 14 + 2):
+        prime = root(left, many, 1, GREATEST_RADICAL)
+        if prime is not None:
+            return product * prime if product * prime <= GREATEST_RADICAL else None
+    return None

@@ -4,6 +4,7 @@ import unittest
 
 from dialsums.dials import Dials
 from dialsums.errors import DialError
+from dialsums.plans import Plan
 from dialsums.sums import Sum
 
 
@@ -29,6 +30,7 @@ ANY = (
     0, 1, -1, 7, 10 ** 12, -10 ** 12, True, False, None, "", "x", "word", "2 x - y", "line\nfeed", "2 : 2 : -",
     (), (1,), (("x", 1),), ((), ((), [])), [], [1], [("x", 1)], {}, {"x": 1}, {1: [None]}, deep(30),
     Sum(), Sum((("x", 2), ("y", -1)), 5), Dials(1, ()), Dials(6, (1, 6), (6, 12)),
+    Plan("people ann\nown ann x"),
 )
 
 

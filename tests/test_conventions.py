@@ -5,13 +5,19 @@ import unittest
 
 from dialsums.dials import Dials
 from dialsums.errors import (
-    BadDial, BadName, BadNumber, BadOthers, BadParts, BadShares, BadSum, BadText, BadValues, BadWhole, TooGreat,
+    BadDial, BadName, BadNumber, BadNumbers, BadOthers, BadParts, BadRows, BadShares, BadSum, BadText, BadValues, BadWhole,
+    NoLine, TooGreat,
 )
+from dialsums.plans import Plan
+from dialsums.playing import played, seen
+from dialsums.spreading import hidden, parts, told
 from dialsums.sums import Sum
+from dialsums.telling import known, leak, shows_known, shows_leak
 from tests.samples import ANY, NO_INTEGERS, NO_NAMES, Refusals
 
 X = Sum((("x", 1),))
 EVEN = Dials(2, (2,))
+PLAN = Plan("people ann\nown ann x")
 
 
 class Integers(Refusals):
@@ -27,6 +33,11 @@ class Integers(Refusals):
             self.refused(BadShares, shares, Dials, 2, shares)
             self.refused(BadOthers, shares, Dials, 2, (1,), shares)
             self.refused(BadValues, values, X, values)
+            self.refused(BadDial, value, known, (), X, value)
+            self.refused(BadDial, value, leak, (), (X,), value)
+            self.refused(NoLine, value, PLAN.without, value)
+            self.refused(BadNumbers, shares, played, PLAN, 2, shares)
+            self.refused(BadNumbers, shares, seen, PLAN, ("ann",), 2, shares)
 
     def test_true_is_not_1(self):
         self.assertFalse(Sum((), 1) == True)  # noqa: E712
@@ -57,6 +68,9 @@ class Lists(Refusals):
         shares = [2]
         self.refused(BadShares, shares, Dials, 2, shares)
         self.refused(BadOthers, shares, Dials, 2, (2,), shares)
+        rows = [X]
+        self.refused(BadRows, rows, known, rows, X, 2)
+        self.refused(BadRows, rows, hidden, rows, (X,))
 
 
 class AnyValue(Refusals):
@@ -98,6 +112,8 @@ class Dial(Refusals):
         self.assertEqual((5 * X % 2, (10 ** 6 + 1) * X % 10 ** 6), (X, X))
         for dial in (1, 0, -2, 10 ** 6 + 1):
             self.refused(BadDial, dial, X.__mod__, dial)
+            self.refused(BadDial, dial, known, (), X, dial)
+            self.refused(BadDial, dial, played, PLAN, dial, (0,))
 
     def test_what_is_told_holds_for_greater_dials(self):
         self.assertIs(10 ** 6 + 2 in EVEN, True)
@@ -145,6 +161,21 @@ class Unchanged(unittest.TestCase):
                 except ValueError:
                     pass
             self.assertEqual(value, before)
+
+    def test_rows_goals_and_plans_stay(self):
+        rows, goals, plan = (Sum.of("4 x + y"), Sum.of("r - 7")), (X, Sum.of("r + y")), Plan("people ann ben\nown ann x")
+        texts = [one.text for one in rows + goals + (plan,)]
+        told_first = known(rows, X, 12), leak(rows, goals, 12)
+        value = [told_first[0], list(told_first[1])]
+        before = copy.deepcopy(value)
+        shows_known(rows, X, 12, value), shows_leak(rows, goals, 12, value)
+        parts(rows, X), told(rows, X), hidden(rows, goals), played(plan, 6, (1,)), seen(plan, ("ben",), 6, (1,))
+        plan + "call ann x", plan.without(2), plan.rows(("ann",), by="has")
+        for call in (lambda: plan + "call ben x", lambda: plan.without(1), lambda: played(plan, 6, (6,))):
+            self.assertRaises(ValueError, call)
+        self.assertEqual([one.text for one in rows + goals + (plan,)], texts)
+        self.assertEqual((plan.saw("ben"), len(plan), value), ((), 2, before))
+        self.assertEqual((known(rows, X, 12), leak(rows, goals, 12)), told_first)
 
     def test_objects_stay_when_a_call_raises(self):
         total, dials = Sum.of("-r + 2 x + 5"), Dials(4, (4,), (6,))

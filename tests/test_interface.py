@@ -5,7 +5,9 @@ import unittest
 from inspect import signature
 from pathlib import Path
 
+from dialsums import playing, spreading, telling
 from dialsums.dials import Dials
+from dialsums.plans import Plan
 from dialsums.sums import Sum
 from tests.test_errors import NAMES
 
@@ -17,14 +19,28 @@ OPERATORS_OF_SUMS = (
 OPERATORS_OF_DIALS = (
     "__contains__ __or__ __and__ __sub__ __xor__ __invert__ __le__ __lt__ __ge__ __gt__ __eq__"
 )
+OPERATORS_OF_PLANS = "__len__ __getitem__ __contains__ __add__ __eq__"
 
 LISTED = {
     "sums.py": {"Sum": "parts number names text of put " + OPERATORS_OF_SUMS},
     "dials.py": {"Dials": "whole shares others text of is_empty is_endless after many " + OPERATORS_OF_DIALS},
+    "plans.py": {"Plan": "text people owns draws notes row saw has rows without " + OPERATORS_OF_PLANS},
     "errors.py": {name: "" for name in ["DialError"] + NAMES},
 }
 
-PROPERTIES = {Sum: "parts number names text", Dials: "whole shares others text is_empty is_endless"}
+PROPERTIES = {
+    Sum: "parts number names text", Dials: "whole shares others text is_empty is_endless",
+    Plan: "text people owns draws notes",
+}
+
+FUNCTIONS = {
+    telling: {
+        "known": "(rows, goal, dial)", "shows_known": "(rows, goal, dial, value)", "leak": "(rows, goals, dial)",
+        "shows_leak": "(rows, goals, dial, value)",
+    },
+    spreading: {"parts": "(rows, goal)", "told": "(rows, goal)", "hidden": "(rows, goals)"},
+    playing: {"played": "(plan, dial, numbers)", "seen": "(plan, people, dial, numbers, *, by='saw')"},
+}
 
 
 def classes(file):
@@ -46,6 +62,13 @@ class Interface(unittest.TestCase):
                 for method in methods.split():
                     self.assertIn(method, found[name], (file, name))
 
+    def test_each_function_stands_where_it_is_listed(self):
+        for module, listed in FUNCTIONS.items():
+            for name, parameters in listed.items():
+                made = getattr(module, name)
+                self.assertEqual(made.__module__, module.__name__, name)
+                self.assertEqual(str(signature(made)), parameters, name)
+
     def test_properties(self):
         for owner, names in PROPERTIES.items():
             for name in names.split():
@@ -59,6 +82,18 @@ class Interface(unittest.TestCase):
         self.assertEqual(str(signature(Dials.of)), "(text)")
         self.assertEqual(str(signature(Dials.after)), "(self, dial)")
         self.assertEqual(str(signature(Dials.many)), "(self, upto)")
+        self.assertEqual(str(signature(Plan)), "(text)")
+        self.assertEqual(str(signature(Plan.row)), "(self, note)")
+        self.assertEqual(str(signature(Plan.saw)), "(self, person)")
+        self.assertEqual(str(signature(Plan.has)), "(self, person)")
+        self.assertEqual(str(signature(Plan.rows)), "(self, people, *, by='saw')")
+        self.assertEqual(str(signature(Plan.without)), "(self, number)")
+
+    def test_what_is_listed_is_set_on_each_object(self):
+        for made, names in ((Sum(), "parts number names text of put"), (Plan("people ann"), LISTED["plans.py"]["Plan"]),
+                            (Dials(1, ()), "whole shares others text of is_empty is_endless after many")):
+            for name in names.split():
+                self.assertTrue(hasattr(made, name), name)
 
 
 if __name__ == "__main__":

@@ -121,6 +121,28 @@ class Statements(unittest.TestCase):
             for decorator in node.decorator_list:
                 self.assertIn(decorator.id, ("property", "staticmethod"), (name, node.name))
 
+    def test_names_of_imports_and_classes_mean_nothing_else(self):
+        for path, _, tree in files():
+            barred = {node.name for node in tree.body if isinstance(node, ast.ClassDef)}
+            for node in tree.body:
+                if isinstance(node, ast.ImportFrom):
+                    barred.update(alias.name for alias in node.names)
+            bound = [node.arg for node in ast.walk(tree) if isinstance(node, ast.arg)]
+            bound += [node.id for node in ast.walk(tree) if isinstance(node, ast.Name) and isinstance(node.ctx, ast.Store)]
+            bound += [node.name for node in ast.walk(tree) if isinstance(node, ast.FunctionDef)]
+            self.assertEqual(barred & set(bound), set(), path)
+
+    def test_no_two_files_import_from_each_other(self):
+        needs = {}
+        for path, _, tree in files():
+            modules = [node.module for node in tree.body if isinstance(node, ast.ImportFrom)]
+            needs[path.stem] = [module.split(".")[1] for module in modules if module.startswith("dialsums.")]
+        done = []
+        while len(done) < len(needs):
+            ready = [name for name in needs if name not in done and all(need in done for need in needs[name])]
+            self.assertNotEqual(ready, [], needs)
+            done.extend(ready)
+
     def test_module_level(self):
         for path, _, tree in files():
             names = defined(tree)
