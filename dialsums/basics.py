@@ -4,6 +4,7 @@ from math import gcd
 
 GREATEST_DIAL = 10 ** 6
 GREATEST_RADICAL = 10 ** 9
+MOST_PEOPLE = 4
 # Of primes beyond this one, no two come to a product within 10 ** 9.
 GREATEST_TRIAL = 31623
 
@@ -30,13 +31,56 @@ def is_dial(value):
     return is_between(value, 2, GREATEST_DIAL)
 
 
+def are_numbers(value, length, dial):
+    """Whether any value is a tuple of so many integers from 0 to dial - 1."""
+    if not isinstance(value, tuple) or len(value) != length:
+        return False
+    for number in value:
+        if not is_between(number, 0, dial - 1):
+            return False
+    return True
+
+
 def is_figures(word):
     """Whether a word is figures alone."""
     return word.isascii() and word.isdigit()
 
 
+def is_written_integer(word):
+    """Whether a word is an integer as Python writes it."""
+    figures = word[1:] if word.startswith("-") else word
+    return is_figures(figures) and str(int(word)) == word
+
+
+def are_unlike_names(words):
+    """Whether these values are names, none of them twice."""
+    for at, word in enumerate(words):
+        if not is_name(word) or word in words[:at]:
+            return False
+    return True
+
+
+def is_few(value):
+    """Whether any value is such a number of people as can be told to be few."""
+    return is_between(value, 0, MOST_PEOPLE)
+
+
+def groups_of(people, most):
+    """All groups of at most so many of these people, ascending."""
+    everybody = tuple(sorted([str(person) for person in people]))
+    return [group for group in subtuples(everybody) if len(group) <= most]
+
+
+def subtuples(members):
+    """All tuples of some of these members in their sequence; if the members ascend, the tuples do."""
+    found = [()]
+    for at, member in enumerate(members):
+        found.extend([(member,) + rest for rest in subtuples(members[at + 1:])])
+    return found
+
+
 def is_ascending(members):
-    """Whether these integers, or these strings, ascend without duplicates."""
+    """Whether these integers, these strings, or these tuples of such ascend without duplicates."""
     for low, high in zip(members, members[1:]):
         if low >= high:
             return False
@@ -63,7 +107,7 @@ def divided(number, most):
         many = 0
         while left % prime == 0:
             left = left // prime
-            many += 1
+            many = many + 1
         if many > 0:
             found.append((prime, many))
         # Behind 2 and 3 only odd numbers need a trial.
@@ -74,9 +118,8 @@ def divided(number, most):
 def factored(number):
     """The primes of an integer from 1 on, ascending, each with its exponent."""
     found, left = divided(number, number)
-    if left > 1:
-        found.append((left, 1))
-    return tuple(found)
+    last = [(left, 1)] if left > 1 else []
+    return tuple(found + last)
 
 
 def joined(factors, others):
@@ -147,7 +190,7 @@ def exponent(number, base):
     left = number
     while left % base == 0:
         left = left // base
-        many += 1
+        many = many + 1
     return many
 
 
@@ -162,15 +205,25 @@ def root(number, many, low, high):
     return low if powers(low, many)[-1] == number else None
 
 
-def radical(number):
-    """The product of all unlike primes of an integer from 1 on, None if it is greater than 10 ** 9."""
+def factored_within(number):
+    """The primes of an integer from 1 on, each with its exponent, None if their product is greater than 10 ** 9."""
     found, left = divided(number, GREATEST_TRIAL)
+    last = _power_of_prime(left)
+    if last is None:
+        return None
     product = 1
-    for prime, _ in found:
+    for prime, _ in found + last:
         product = product * prime
+    return tuple(found + last) if product <= GREATEST_RADICAL else None
+
+
+def _power_of_prime(left):
+    """[(prime, exponent)] of what trial division has left, [] of 1, None if there is no such prime up to 10 ** 9."""
+    if left == 1:
+        return []
     # What is left can be any power of one prime, which has more than 14 binary figures: two would be too great.
     for many in range(1, left.bit_length() // 14 + 2):
         prime = root(left, many, 1, GREATEST_RADICAL)
         if prime is not None:
-            return product * prime if product * prime <= GREATEST_RADICAL else None
+            return [(prime, many)]
     return None

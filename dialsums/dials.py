@@ -93,7 +93,7 @@ class Dials:
         rest = self._whole // share
         times = dial // share + 1
         while gcd(times, rest) > 1 or times * share in self._other_marks:
-            times += 1
+            times = times + 1
         return times * share
 
     def many(self, upto):

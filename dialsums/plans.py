@@ -1,10 +1,9 @@
 """Plans: lines that tell who owns, draws, reckons, shows and burns notes."""
 
-from dialsums.basics import are_within, is_ascending, is_between, is_name
-from dialsums.errors import BadBy, BadLine, BadPeople, BadPlan, BadText, Needed, NoLine, NoNote, NoPerson
-from dialsums.sums import Sum
+from dialsums.basics import MOST_PEOPLE, are_unlike_names, are_within, is_ascending, is_between, is_name
+from dialsums.errors import BadBy, BadLine, BadPeople, BadPlan, Needed, NoLine, NoNote, NoPerson
+from dialsums.sums import Sum, read_sum
 
-MOST_PEOPLE = 4
 MOST_LINES = 20
 MOST_NOTES = 12
 MOST_OF_A_KIND = 4
@@ -24,7 +23,7 @@ class Plan:
         if standing is None:
             raise BadPlan(1)
         for at, line in enumerate(lines[1:]):
-            standing = _behind(standing, line.split(" "))
+            standing = behind(standing, line.split(" "))
             if standing is None:
                 raise BadPlan(at + 2)
         self._text = text
@@ -81,7 +80,7 @@ class Plan:
 
     def rows(self, people, *, by="saw"):
         """The rows of all notes that one of these people at least saw, or has."""
-        if not _are_some(people, self._people):
+        if not is_group(people, self._people):
             raise BadPeople(people)
         check_by(by)
         notes = self._notes_by(self._shown if by == "saw" else self._held, people)
@@ -153,7 +152,7 @@ def check_by(by):
         raise BadBy(by)
 
 
-def _are_some(value, everybody):
+def is_group(value, everybody):
     """Whether any value is an ascending tuple of some of these people."""
     if not isinstance(value, tuple):
         return False
@@ -161,6 +160,11 @@ def _are_some(value, everybody):
         if person not in everybody:
             return False
     return is_ascending(value)
+
+
+def are_people(value):
+    """Whether any value is a tuple of people that a plan can have."""
+    return isinstance(value, tuple) and 1 <= len(value) <= MOST_PEOPLE and are_unlike_names(value)
 
 
 def _made(lines, kind):
@@ -175,17 +179,14 @@ def _made(lines, kind):
 
 def _begun(words):
     """How things stand behind a first line of these words, None if it is none."""
-    crowd = words[1:]
-    if words[0] != "people" or not 1 <= len(crowd) <= MOST_PEOPLE:
+    crowd = tuple(words[1:])
+    if words[0] != "people" or not are_people(crowd):
         return None
-    for at, person in enumerate(crowd):
-        if not is_name(person) or person in crowd[:at]:
-            return None
-    return Standing(tuple(crowd), (), {}, {}, {})
+    return Standing(crowd, (), {}, {}, {})
 
 
-def _behind(standing, words):
-    """How things stand behind one line more, None if it cannot stand there."""
+def behind(standing, words):
+    """How things stand behind one line more of these words, None if it cannot stand there."""
     deed = _deed(standing, words) if len(standing.kinds) < MOST_LINES else None
     if deed is None:
         return None
@@ -232,29 +233,35 @@ def _number(standing, kind, note, rest):
 
 def _reckoned(standing, person, rest):
     """The row of what this person reckons by the words behind the note, None if they cannot stand there."""
-    total = _read_total(rest)
-    if total is None:
-        return None
-    row = Sum((), total.number)
-    for name, many in total.parts:
-        if not _holds(standing, person, name):
-            return None
-        row = row + standing.worth[name] * many
-    integers = [many for name, many in row.parts] + [row.number]
-    return row if are_within(integers, GREATEST_IN_ROWS) else None
-
-
-def _read_total(rest):
-    """The Sum behind = in a line sum, None if there is none within its bounds."""
     if len(rest) < 2 or rest[0] != "=":
         return None
-    try:
-        total = Sum.of(" ".join(rest[1:]))
-    except BadText:
+    total = read_sum(" ".join(rest[1:]))
+    if total is None or not is_total(total):
         return None
-    if not are_within([many for name, many in total.parts], GREATEST_MANY):
-        return None
-    return total if are_within([total.number], GREATEST_NUMBER) else None
+    for name in total.names:
+        if not _holds(standing, person, name):
+            return None
+    row = put_in(total, standing.worth)
+    return row if is_row(row) else None
+
+
+def is_total(total):
+    """Whether the integers of a Sum are within the bounds of what is reckoned in one line."""
+    integers = [many for name, many in total.parts]
+    return are_within(integers, GREATEST_MANY) and are_within([total.number], GREATEST_NUMBER)
+
+
+def is_row(row):
+    """Whether the integers of a Sum are within the bounds of the row of a note."""
+    return are_within([many for name, many in row.parts] + [row.number], GREATEST_IN_ROWS)
+
+
+def put_in(total, rows):
+    """The Sum with the row of each note, by its name, in the note's place."""
+    found = Sum((), total.number)
+    for name, many in total.parts:
+        found = found + rows[name] * many
+    return found
 
 
 def _old_note(standing, words):

@@ -1,6 +1,6 @@
 """Plans that are played: what notes come to by given numbers."""
 
-from dialsums.basics import is_between, is_dial
+from dialsums.basics import are_numbers, is_dial
 from dialsums.errors import BadDial, BadNumbers
 
 
@@ -29,11 +29,8 @@ def _values(plan, dial, numbers):
     names = sources(plan)
     if not is_dial(dial):
         raise BadDial(dial)
-    if not isinstance(numbers, tuple) or len(numbers) != len(names):
+    if not are_numbers(numbers, len(names), dial):
         raise BadNumbers(numbers)
-    for number in numbers:
-        if not is_between(number, 0, dial - 1):
-            raise BadNumbers(numbers)
     return {name: number for name, number in zip(names, numbers)}
 
 

@@ -133,10 +133,18 @@ class Sum:
     def __mod__(self, other):
         if not is_dial(other):
             raise BadDial(other)
-        return _counted({name: many % other for name, many in self._parts}, self._number % other)
+        return sum_of_counts({name: many % other for name, many in self._parts}, self._number % other)
 
     def __eq__(self, other):
         return isinstance(other, Sum) and self._parts == other._parts and self._number == other._number
+
+
+def read_sum(text):
+    """The Sum of which any value is the text, None if it is no such text."""
+    try:
+        return Sum.of(text)
+    except BadText:
+        return None
 
 
 def _are_parts(value):
@@ -169,7 +177,7 @@ def _are_values(value, parts):
     return True
 
 
-def _counted(counts, number):
+def sum_of_counts(counts, number):
     """The Sum of these names, each so many times, perhaps 0 times, and the number."""
     names = sorted([str(name) for name in counts if counts[name] != 0])
     return Sum(tuple([(name, counts[name]) for name in names]), number)
@@ -180,12 +188,12 @@ def _added(one, other, times):
     counts = dict(one.parts)
     for name, many in other.parts:
         counts[name] = counts.get(name, 0) + times * many
-    return _counted(counts, one.number + times * other.number)
+    return sum_of_counts(counts, one.number + times * other.number)
 
 
 def _times(one, times):
     """So many times a Sum."""
-    return _counted({name: times * many for name, many in one.parts}, times * one.number)
+    return sum_of_counts({name: times * many for name, many in one.parts}, times * one.number)
 
 
 def _term(name, many):

@@ -2,7 +2,7 @@
 
 from math import gcd
 
-from dialsums.basics import are_within, is_ascending, is_between, is_dial, is_name, times_to_gcd
+from dialsums.basics import are_numbers, are_within, is_ascending, is_between, is_dial, is_name, times_to_gcd
 from dialsums.errors import BadDial, BadRows, BadSum, BadSums
 from dialsums.sums import Sum
 
@@ -14,7 +14,7 @@ MOST_GOALS = 4
 def known(rows, goal, dial):
     """(part, weights, change): the part of the goal, how the rows show it, and how nothing more is known."""
     _check_known(rows, goal, dial)
-    part, change = _part_and_change(rows, goal, dial)
+    part, change = part_and_change(rows, goal, dial)
     return part, _weights(rows, goal, dial), change
 
 
@@ -27,7 +27,7 @@ def shows_known(rows, goal, dial, value):
     if not is_between(part, 1, dial) or dial % part != 0:
         return False
     # Weights show that the part is a multiple of this one, a change that it is a divisor.
-    if not _are_numbers(weights, len(rows), dial) or not _is_change(change, dial):
+    if not are_numbers(weights, len(rows), dial) or not _is_change(change, dial):
         return False
     if not _is_nothing(goal * (dial // part) - _weighed(rows, weights), dial):
         return False
@@ -38,7 +38,7 @@ def leak(rows, goals, dial):
     """None if the rows tell nothing of the goals; otherwise (shares, weights) of what they tell."""
     _check_leak(rows, goals, dial)
     names = names_of(rows + goals)
-    vectors = _goals_against_rows(goals, rows, [_integers(goal, names, dial) for goal in goals], names, dial)
+    vectors = _goals_against_rows(goals, rows, [_integers_round(goal, names, dial) for goal in goals], names, dial)
     leader = _first_leader(vectors, len(names), len(names), dial)
     if leader is None:
         return None
@@ -54,7 +54,7 @@ def shows_leak(rows, goals, dial, value):
     if not isinstance(value, tuple) or len(value) != 2:
         return False
     shares, weights = value
-    if not _are_numbers(shares, len(goals), dial) or not _are_numbers(weights, len(rows), dial):
+    if not are_numbers(shares, len(goals), dial) or not are_numbers(weights, len(rows), dial):
         return False
     shared = _weighed(goals, shares)
     return not _is_nothing(shared, dial) and _is_nothing(shared - _weighed(rows, weights), dial)
@@ -63,6 +63,11 @@ def shows_leak(rows, goals, dial, value):
 def is_goal(value):
     """Whether any value is a Sum that can be a goal, or a row."""
     return isinstance(value, Sum) and are_within([many for name, many in value.parts], GREATEST_MANY)
+
+
+def is_goal_of(names, value):
+    """Whether any value is a Sum of some of these names that can be a goal."""
+    return is_goal(value) and all([name in names for name in value.names])
 
 
 def are_rows(value):
@@ -111,22 +116,27 @@ def names_of(totals):
     return sorted([str(name) for name in found])
 
 
-def _integers(total, names, dial):
+def integers_at(total, names):
+    """The integers of a Sum at these names."""
+    return [total[name] for name in names]
+
+
+def _integers_round(total, names, dial):
     """The integers of a Sum at these names, round the dial."""
-    return [total[name] % dial for name in names]
+    return [number % dial for number in integers_at(total, names)]
 
 
-def _part_and_change(rows, goal, dial):
+def part_and_change(rows, goal, dial):
     """The part of the goal, and a change of the numbers by which it becomes just so much more."""
     names = names_of(rows + (goal,))
     # Each name gives what one more of it adds to the rows and to the goal: changes are sums of these.
     vectors = []
     for at, name in enumerate(names):
-        vectors.append([total[name] % dial for total in rows + (goal,)] + _unit(at, len(names)))
+        vectors.append([total[name] % dial for total in rows + (goal,)] + unit(at, len(names)))
     leader = _first_leader(vectors, len(rows), 1, dial)
     if leader is None:
         return dial, ()
-    least = _led_by_gcd(leader, len(rows), dial)
+    least = led_by_gcd(leader, len(rows), dial)
     numbers = least[len(rows) + 1:]
     return least[len(rows)], tuple([(name, number) for name, number in zip(names, numbers) if number != 0])
 
@@ -138,7 +148,7 @@ def _weights(rows, goal, dial):
     if leader is None:
         # Only as many goals as the dial has marks come to nothing, and no row is needed for that.
         return tuple([0 for _ in rows])
-    return tuple(_led_by_gcd(leader, len(names), dial)[len(names) + 2:])
+    return tuple(led_by_gcd(leader, len(names), dial)[len(names) + 2:])
 
 
 def _goals_against_rows(goals, rows, marks, names, dial):
@@ -150,11 +160,11 @@ def _goals_against_rows(goals, rows, marks, names, dial):
     vectors = []
     for at, total in enumerate(totals):
         marked = marks[at] if at < len(goals) else [0 for _ in marks[0]]
-        vectors.append(_integers(total, names, dial) + marked + _unit(at, len(totals)))
+        vectors.append(_integers_round(total, names, dial) + marked + unit(at, len(totals)))
     return vectors
 
 
-def _unit(at, length):
+def unit(at, length):
     """1 in this place, 0 in all others."""
     return [int(place == at) for place in range(length)]
 
@@ -166,13 +176,13 @@ def _first_leader(vectors, skipped, tried, dial):
     """
     left = vectors
     for column in range(skipped + tried):
-        leader, left = _swept(left, column, dial)
+        leader, left = swept(left, column, dial)
         if leader is not None and column >= skipped:
             return leader
     return None
 
 
-def _swept(vectors, column, dial):
+def swept(vectors, column, dial):
     """(leader, others): the others make all sums of these vectors with 0 in this column, with the leader all sums."""
     leader = None
     others = []
@@ -190,11 +200,58 @@ def _swept(vectors, column, dial):
     return leader, [other for other in others if any(other)]
 
 
+def ended(vectors, skipped, dial):
+    """What makes all sums of these vectors that have 0 in the columns skipped, by the other columns alone."""
+    left = vectors
+    for column in range(skipped):
+        _, left = swept(left, column, dial)
+    return [vector[skipped:] for vector in left]
+
+
+def knowledge_of(vectors, length, dial):
+    """The one tuple of rows that makes, with multiples of the dial, the same sums as these vectors (section 14)."""
+    rows = []
+    left = vectors
+    for column in range(length):
+        leader, left = swept(left, column, dial)
+        if leader is None:
+            rows.append([dial * one for one in unit(column, length)])
+        else:
+            rows.append(led_by_gcd(leader, column, dial))
+    return tuple([_with_rests(rows, at) for at in range(length)])
+
+
+def _with_rests(rows, at):
+    """The row with rests in the columns behind its own, by what the other rows have there."""
+    row = rows[at]
+    for column in range(at + 1, len(rows)):
+        row = less(row, rows[column], row[column] // rows[column][column])
+    return tuple(row)
+
+
+def less(vector, other, times):
+    """A vector less so many times another one."""
+    return [high - times * low for high, low in zip(vector, other)]
+
+
+def part_by(knowledge, vector, dial):
+    """The part of the sum with these integers in the columns of a knowledge."""
+    times = 1
+    left = vector
+    for column, row in enumerate(knowledge):
+        # The row has a divisor of the dial there, so the multiple that it comes to can be reckoned round the dial.
+        more = row[column] // gcd(row[column], left[column])
+        times = times * more
+        left = [more * number % dial for number in left]
+        left = less(left, row, left[column] // row[column])
+    return dial // times
+
+
 def _parted(one, other, column, dial):
     """Two vectors that make the same sums as these, the second with 0 in this column."""
     while other[column] != 0:
-        times = one[column] // other[column]
-        one, other = other, [(high - times * low) % dial for high, low in zip(one, other)]
+        rest = less(one, other, one[column] // other[column])
+        one, other = other, [number % dial for number in rest]
     return one, other
 
 
@@ -203,19 +260,9 @@ def _multiple(vector, times, dial):
     return [times * number % dial for number in vector]
 
 
-def _led_by_gcd(leader, column, dial):
+def led_by_gcd(leader, column, dial):
     """The multiple of the leader with a divisor of the dial in this column."""
     return _multiple(leader, times_to_gcd(leader[column], dial), dial)
-
-
-def _are_numbers(value, length, dial):
-    """Whether any value is a tuple of so many integers from 0 to dial - 1."""
-    if not isinstance(value, tuple) or len(value) != length:
-        return False
-    for number in value:
-        if not is_between(number, 0, dial - 1):
-            return False
-    return True
 
 
 def _is_change(value, dial):

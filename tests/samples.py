@@ -2,9 +2,12 @@
 
 import unittest
 
+from dialsums.desk import Desk
 from dialsums.dials import Dials
 from dialsums.errors import DialError
 from dialsums.plans import Plan
+from dialsums.rooms import Room
+from dialsums.rounds import Rounds
 from dialsums.sums import Sum
 
 
@@ -30,7 +33,7 @@ ANY = (
     0, 1, -1, 7, 10 ** 12, -10 ** 12, True, False, None, "", "x", "word", "2 x - y", "line\nfeed", "2 : 2 : -",
     (), (1,), (("x", 1),), ((), ((), [])), [], [1], [("x", 1)], {}, {"x": 1}, {1: [None]}, deep(30),
     Sum(), Sum((("x", 2), ("y", -1)), 5), Dials(1, ()), Dials(6, (1, 6), (6, 12)),
-    Plan("people ann\nown ann x"),
+    Plan("people ann\nown ann x"), Rounds("people ann\nround\ndraw ann t"), Room(6, ("ann",)), Desk("6 ann"),
 )
 
 

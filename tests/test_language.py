@@ -28,6 +28,15 @@ WORDS = set(
     "type typing enum Enum Generic Protocol ABC dataclass overload namedtuple abstractmethod contextmanager Meta".split()
 )
 
+# Methods that change a list, a dict or a set.
+CHANGING = set("append clear extend insert pop remove reverse setdefault sort update add discard".split())
+
+# What gives a new list, dict or set.
+MAKING = ("list", "dict", "set", "sorted")
+
+# These may change what they are given.
+FREE = "__init__ __iadd__ __enter__ __exit__ __call__ __iter__".split()
+
 FORBIDDEN = (
     ast.Global, ast.AsyncFunctionDef, ast.Await, ast.Import, ast.GeneratorExp, ast.Div, ast.Set, ast.SetComp,
 )
@@ -111,10 +120,9 @@ class Statements(unittest.TestCase):
         for name, function in nodes(ast.FunctionDef):
             self.assertFalse([node for node in ast.walk(function) if isinstance(node, ast.Pow)], (name, function.name))
 
-    def test_additions_in_place_are_of_literal_integers(self):
-        for name, node in nodes(ast.AugAssign):
-            self.assertIsInstance(node.value, ast.Constant, (name, node.lineno))
-            self.assertIsInstance(node.value.value, int, (name, node.lineno))
+    def test_nothing_is_added_in_place(self):
+        # A class has __iadd__, so that what an operator reaches may not have any += at all.
+        self.assertEqual([(name, node.lineno) for name, node in nodes(ast.AugAssign)], [])
 
     def test_decorators(self):
         for name, node in nodes((ast.FunctionDef, ast.ClassDef)):
@@ -149,6 +157,157 @@ class Statements(unittest.TestCase):
             self.assertEqual(len(names), len(set(names)), path)
             for node in tree.body:
                 self.assertIsInstance(node, (ast.Expr, ast.ImportFrom, ast.ClassDef, ast.FunctionDef, ast.Assign), path)
+
+
+class Blocks(unittest.TestCase):
+    """L6 With: what a block is left by only moves what it held."""
+
+    def test_rows_of_exit(self):
+        found = [node for name, node in nodes(ast.FunctionDef) if node.name == "__exit__"]
+        self.assertEqual(len(found), 1)
+        for node in found:
+            self.assertEqual([part.arg for part in node.args.args], ["self", "kind", "value", "trace"])
+            for part in ast.walk(node):
+                if isinstance(part, ast.stmt):
+                    self.assertIsInstance(part, (ast.FunctionDef, ast.Assign, ast.If), part.lineno)
+                self.assertNotIsInstance(part, (ast.Call, ast.BinOp, ast.Subscript))
+                if isinstance(part, ast.Name):
+                    self.assertNotIn(part.id, ("value", "trace"))
+
+    def test_blocks_stand_over_a_call(self):
+        for name, node in nodes(ast.With):
+            for item in node.items:
+                self.assertIsInstance(item.context_expr, ast.Call, (name, node.lineno))
+                self.assertIsInstance(item.optional_vars, ast.Name, (name, node.lineno))
+
+
+def functions():
+    """{name: all functions and methods of this name}; a class stands for its __init__, and a property for itself."""
+    found = {}
+    for path, _, tree in files():
+        for node in tree.body:
+            if isinstance(node, ast.FunctionDef):
+                found.setdefault(node.name, []).append((path.name, node))
+            if isinstance(node, ast.ClassDef):
+                for part in node.body:
+                    if isinstance(part, ast.FunctionDef):
+                        name = node.name if part.name == "__init__" else part.name
+                        found.setdefault(name, []).append((path.name, part))
+    return found
+
+
+def is_property(node):
+    """Whether a method is a property."""
+    return any(isinstance(one, ast.Name) and one.id == "property" for one in node.decorator_list)
+
+
+def beginnings():
+    """The operators and the properties."""
+    found = []
+    for path, _, tree in files():
+        for node in ast.walk(tree):
+            if isinstance(node, ast.FunctionDef):
+                is_operator = node.name.startswith("__") and node.name not in FREE
+                if is_operator or is_property(node):
+                    found.append((path.name, node))
+    return found
+
+
+def reached():
+    """All functions that an operator or a property reaches, whatever it is that a method is called of."""
+    known = functions()
+    found = []
+    left = beginnings()
+    while left:
+        name, function = left.pop()
+        if function in [one for _, one in found]:
+            continue
+        found.append((name, function))
+        for node in ast.walk(function):
+            if isinstance(node, ast.Call) and isinstance(node.func, ast.Name):
+                left.extend(known.get(node.func.id, ()))
+            if isinstance(node, ast.Call) and isinstance(node.func, ast.Attribute):
+                left.extend(known.get(node.func.attr, ()))
+            # Properties are read without a call, and are beginnings themselves.
+    return found
+
+
+def makes(value):
+    """Whether an expression gives a new list, dict or set."""
+    if isinstance(value, (ast.List, ast.Dict, ast.Set, ast.ListComp, ast.DictComp, ast.SetComp)):
+        return True
+    if isinstance(value, ast.Call) and isinstance(value.func, ast.Name):
+        return value.func.id in MAKING
+    if isinstance(value, ast.Subscript):
+        return isinstance(value.slice, ast.Slice)
+    # Where a class has an __add__, both must be new.
+    return isinstance(value, ast.BinOp) and isinstance(value.op, ast.Add) and makes(value.left) and makes(value.right)
+
+
+def bound(function, name):
+    """What a local variable is assigned in a function: the expressions, None where it is handed something."""
+    found = [None for node in ast.walk(function.args) if isinstance(node, ast.arg) and node.arg == name]
+    whole = set()
+    for node in ast.walk(function):
+        if isinstance(node, ast.Assign):
+            for target in node.targets:
+                if isinstance(target, ast.Name) and target.id == name:
+                    found.append(node.value)
+                    whole.add(target)
+    for node in ast.walk(function):
+        if isinstance(node, ast.Name) and node.id == name and isinstance(node.ctx, ast.Store) and node not in whole:
+            found.append(None)
+    return found
+
+
+def changes(function):
+    """(row, what is changed) of all changes of lists, dicts, sets and attributes in a function."""
+    for node in ast.walk(function):
+        if isinstance(node, ast.Call) and isinstance(node.func, ast.Attribute) and node.func.attr in CHANGING:
+            yield node.lineno, node.func.value
+        if isinstance(node, (ast.Subscript, ast.Attribute)) and isinstance(node.ctx, (ast.Store, ast.Del)):
+            yield node.lineno, node.value
+
+
+def wrong_changes(function):
+    """The rows in which a function changes what it did not create itself."""
+    found = []
+    for row, changed in changes(function):
+        if function.name == "__init__" and isinstance(changed, ast.Name) and changed.id == "self":
+            continue
+        assigned = bound(function, changed.id) if isinstance(changed, ast.Name) else []
+        if not assigned or not all(value is not None and makes(value) for value in assigned):
+            found.append(row)
+    return found
+
+
+class Created(unittest.TestCase):
+    """L5: what an operator or a property reaches changes only what it creates itself."""
+
+    def test_what_operators_and_properties_reach(self):
+        names = [function.name for name, function in reached()]
+        for name in ("__or__", "__invert__", "__add__", "text", "journal", "factored", "divided", "_least", "of", "behind"):
+            self.assertIn(name, names)
+        for name in ("__iadd__", "keep", "undo", "tried"):
+            self.assertNotIn(name, names)
+        for name, function in reached():
+            self.assertEqual(wrong_changes(function), [], (name, function.name))
+
+    def test_it_would_be_seen(self):
+        for rows in (
+            "found, left = divided(number, number)\n    found.append((left, 1))", "found = divided(number)\n    found[0] = 1",
+            "number.append(1)", "found = []\n    found = number\n    found.pop()", "number[1] = 2", "del number[1]",
+            "for found in number:\n        found.append(1)", "found = [[1]]\n    found[0].append(1)", "self.many = 1",
+            "found = number + [1]\n    found.append(1)", "found = [1]\n    other(found)[0] = 1", "number.sort()",
+        ):
+            tree = ast.parse(f"def told(self, number):\n    {rows}\n")
+            self.assertEqual(len(wrong_changes(tree.body[0])), 1, rows)
+        for rows in (
+            "found = []\n    found.append(number)", "found = dict(number)\n    found[1] = 2", "found = number[1:]\n    found.pop()",
+            "found = [one for one in number]\n    del found[0]", "found = sorted([1])\n    found = [2]\n    found.sort()",
+        ):
+            tree = ast.parse(f"def told(self, number):\n    {rows}\n")
+            self.assertEqual(wrong_changes(tree.body[0]), [], rows)
 
 
 class Calls(unittest.TestCase):
