@@ -3,7 +3,7 @@
 from math import gcd
 
 GREATEST_DIAL = 10 ** 6
-GREATEST_RADICAL = 10 ** 9
+GREATEST_PRIME = 10 ** 9
 MOST_PEOPLE = 4
 # Of primes beyond this one, no two come to a product within 10 ** 9.
 GREATEST_TRIAL = 31623
@@ -206,24 +206,19 @@ def root(number, many, low, high):
 
 
 def factored_within(number):
-    """The primes of an integer from 1 on, each with its exponent, None if their product is greater than 10 ** 9."""
+    """The primes of an integer from 1 on, each with its exponent, None if one or two of them come to over 10 ** 9."""
     found, left = divided(number, GREATEST_TRIAL)
     last = _power_of_prime(left)
-    if last is None:
-        return None
-    product = 1
-    for prime, _ in found + last:
-        product = product * prime
-    return tuple(found + last) if product <= GREATEST_RADICAL else None
+    return None if last is None else tuple(found + last)
 
 
 def _power_of_prime(left):
-    """[(prime, exponent)] of what trial division has left, [] of 1, None if there is no such prime up to 10 ** 9."""
+    """[(prime, exponent)] of what trial division has left, [] of 1, None if it is no power of a prime up to 10 ** 9."""
     if left == 1:
         return []
     # What is left can be any power of one prime, which has more than 14 binary figures: two would be too great.
     for many in range(1, left.bit_length() // 14 + 2):
-        prime = root(left, many, 1, GREATEST_RADICAL)
+        prime = root(left, many, 1, GREATEST_PRIME)
         if prime is not None:
             return [(prime, many)]
     return None
