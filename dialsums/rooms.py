@@ -26,7 +26,8 @@ class Trial:
 
     def __init__(self, place):
         self.place = place
-        self.is_to_stay = False
+        # None until keep is called in this block: where it is left only that may be asked.
+        self.keeping = None
         self.outer = None
         self.moment = None
         self.undone = ()
@@ -41,7 +42,7 @@ class Trial:
 
     def __exit__(self, kind, value, trace):
         place = self.place
-        if kind is not None or not self.is_to_stay:
+        if kind is not None or self.keeping is None:
             place.moment = self.moment
             place.undone = self.undone
         place.trials = self.outer
@@ -161,7 +162,7 @@ class Room:
         inner = self.trials
         if inner is None:
             raise NoTrial(None)
-        inner.is_to_stay = True
+        inner.keeping = True
 
     def tried(self, look, *, keep=False):
         """What look returns of the room; what it does stands if keep is True."""

@@ -37,6 +37,9 @@ MAKING = ("list", "dict", "set", "sorted")
 # These may change what they are given.
 FREE = "__init__ __iadd__ __enter__ __exit__ __call__ __iter__".split()
 
+# Expressions and statements that ask something, or can, beside an if.
+ASKING = (ast.IfExp, ast.BoolOp, ast.Compare, ast.UnaryOp, ast.While, ast.Assert, ast.Match, ast.ListComp, ast.DictComp)
+
 FORBIDDEN = (
     ast.Global, ast.AsyncFunctionDef, ast.Await, ast.Import, ast.GeneratorExp, ast.Div, ast.Set, ast.SetComp,
 )
@@ -159,6 +162,26 @@ class Statements(unittest.TestCase):
                 self.assertIsInstance(node, (ast.Expr, ast.ImportFrom, ast.ClassDef, ast.FunctionDef, ast.Assign), path)
 
 
+def asks_none(test):
+    """Whether a test is a name or an attribute `is None` or `is not None`, or `and`, `or`, `not` of such."""
+    if isinstance(test, ast.BoolOp):
+        return all(asks_none(part) for part in test.values)
+    if isinstance(test, ast.UnaryOp):
+        return isinstance(test.op, ast.Not) and asks_none(test.operand)
+    if not isinstance(test, ast.Compare) or len(test.ops) != 1 or not isinstance(test.ops[0], (ast.Is, ast.IsNot)):
+        return False
+    other = test.comparators[0]
+    return isinstance(test.left, (ast.Name, ast.Attribute)) and isinstance(other, ast.Constant) and other.value is None
+
+
+def wrong_tests(function):
+    """The rows in which a function tests otherwise than asks_none tells, or asks anything outside of an if."""
+    tests = [node.test for node in ast.walk(function) if isinstance(node, ast.If)]
+    within = {part for test in tests for part in ast.walk(test)}
+    asking = [node for node in ast.walk(function) if isinstance(node, ASKING) and node not in within]
+    return [node.lineno for node in [test for test in tests if not asks_none(test)] + asking]
+
+
 class Blocks(unittest.TestCase):
     """L6 With: what a block is left by only moves what it held."""
 
@@ -167,12 +190,42 @@ class Blocks(unittest.TestCase):
         self.assertEqual(len(found), 1)
         for node in found:
             self.assertEqual([part.arg for part in node.args.args], ["self", "kind", "value", "trace"])
+            asked = [part.left for part in ast.walk(node) if isinstance(part, ast.Compare)]
             for part in ast.walk(node):
                 if isinstance(part, ast.stmt):
                     self.assertIsInstance(part, (ast.FunctionDef, ast.Assign, ast.If), part.lineno)
                 self.assertNotIsInstance(part, (ast.Call, ast.BinOp, ast.Subscript))
                 if isinstance(part, ast.Name):
                     self.assertNotIn(part.id, ("value", "trace"))
+                    self.assertTrue(part.id != "kind" or part in asked, part.lineno)
+
+    def test_exit_asks_for_none_alone(self):
+        for name, node in nodes(ast.FunctionDef):
+            if node.name == "__exit__":
+                self.assertEqual(wrong_tests(node), [], name)
+
+    def test_other_tests_would_be_seen(self):
+        for test in (
+            "self.kept", "not self.kept", "kind is not None or not self.kept", "kind is None and self.kept", "kept", "True",
+            "self.kept == None", "self.many == 1", "self.many > 0", "self.kept is True", "self.kept is kind", "None is kind",
+            "kind is None is None", "self.kept() is None", "self.kept[0] is None", "self.kept in (None, 1)", "-self.many",
+            "kind is None if self.kept is None else kind is not None", "bool(self.kept)", "not (kind is None or self.kept)",
+        ):
+            for rows in (f"if {test}:\n        self.many = 1", f"if kind is None:\n        if {test}:\n            self.many = 1"):
+                tree = ast.parse(f"def __exit__(self, kind, value, trace):\n    {rows}\n")
+                self.assertEqual(len(wrong_tests(tree.body[0])), 1, rows)
+        for row in (
+            "self.many = 1 if kind is None else 2", "self.many = self.one or 2", "self.many = kind is None", "self.many = -1",
+            "self.many = [one for one in self.rows if one]",
+        ):
+            tree = ast.parse(f"def __exit__(self, kind, value, trace):\n    {row}\n")
+            self.assertNotEqual(wrong_tests(tree.body[0]), [], row)
+        for test in (
+            "kind is None", "kind is not None", "self.kept is None", "kind is not None or self.kept is None", "not kind is None",
+            "kept is not None", "self.place.kept is None", "kind is None and not (self.kept is None or self.one is not None)",
+        ):
+            tree = ast.parse(f"def __exit__(self, kind, value, trace):\n    if {test}:\n        self.many = 1\n")
+            self.assertEqual(wrong_tests(tree.body[0]), [], test)
 
     def test_blocks_stand_over_a_call(self):
         for name, node in nodes(ast.With):
